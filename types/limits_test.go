@@ -99,6 +99,28 @@ func TestManyTypes(t *testing.T) {
 	told(t, n, api.ErrType, n.Kids[99].Kids[0])
 }
 
+// The type that is one too many is told ahead of what is wrong in the groups behind, and behind what is wrong with a name ahead of it.
+func TestManyTypesAndWrongThings(t *testing.T) {
+	for i, w := range things {
+		s, _ := w.numbered(i)
+		piece := placed(read(t, withoutMark(s)))
+		count := 0
+		for _, d := range piece.Kids {
+			if declares(d) {
+				count++
+			}
+		}
+		n := placed(program(slices.Concat(piece.Kids, numbered(api.MaxTypes-count+1))...))
+		if w.group > 1 {
+			told(t, n, api.ErrMany, n.Kids[len(n.Kids)-1])
+		} else if got := made(t, n); got != made(t, piece) {
+			t.Errorf("Y1: %s: %s", s, got)
+		}
+		n = placed(program(slices.Concat(numbered(api.MaxTypes+1), piece.Kids)...))
+		told(t, n, api.ErrMany, n.Kids[api.MaxTypes])
+	}
+}
+
 // Sixty methods of a type: one more is told, unless its name is there; pointers and values are counted together, each type by itself.
 func TestManyMethods(t *testing.T) {
 	for _, declared := range []api.Node{node(api.NType, "T", name("map")), node(api.NStruct, "T", node(api.NField, "x"), node(api.NField, "y"))} {
