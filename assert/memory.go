@@ -1,0 +1,19 @@
+package assert
+
+import (
+	"strings"
+
+	"guise/api"
+)
+
+// copied is a datum, right or not, in memory of its own.
+func copied(d api.Datum) api.Datum {
+	d.Type, d.S = strings.Clone(d.Type), strings.Clone(d.S)
+	d.Ref.Path = append([]int(nil), d.Ref.Path...)
+	items := append([]api.Datum(nil), d.Items...)
+	for i, item := range items {
+		items[i] = copied(item)
+	}
+	d.Items = items
+	return d
+}
