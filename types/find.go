@@ -109,11 +109,11 @@ func (t *Table) found(e entry, pointer bool, what string) api.Found {
 	case p.field:
 		return api.Found{Kind: api.FoundField, Path: append(slices.Clone(e.path), p.number)}
 	case s.kind == api.KNil:
-		return api.Found{Kind: api.FoundProtocol, Path: slices.Clone(e.path), Type: e.name, Count: p.count}
+		return api.Found{Kind: api.FoundProtocol, Path: slices.Clone(e.path), Type: strings.Clone(e.name), Count: p.count}
 	case p.pointer && !pointer && !e.pointer:
 		return api.Found{}
 	}
-	return api.Found{Kind: api.FoundMethod, Path: slices.Clone(e.path), Type: e.name, Pointer: p.pointer, Count: p.count}
+	return api.Found{Kind: api.FoundMethod, Path: slices.Clone(e.path), Type: strings.Clone(e.name), Pointer: p.pointer, Count: p.count}
 }
 
 func isMethod(f api.Found) bool { return f.Kind == api.FoundMethod || f.Kind == api.FoundProtocol }
@@ -135,7 +135,7 @@ func (t *Table) Methods(name string, pointer bool) []api.Method {
 	var out []api.Method
 	for what := range names {
 		if f := t.find(slices.Values(levels), pointer, what); isMethod(f) {
-			out = append(out, api.Method{Name: what, Count: f.Count})
+			out = append(out, api.Method{Name: strings.Clone(what), Count: f.Count})
 		}
 	}
 	sortMethods(out)
@@ -153,7 +153,7 @@ func (t *Table) Wants(protocol string) ([]api.Method, bool) {
 	}
 	var out []api.Method
 	for what, p := range s.parts {
-		out = append(out, api.Method{Name: what, Count: p.count})
+		out = append(out, api.Method{Name: strings.Clone(what), Count: p.count})
 	}
 	sortMethods(out)
 	return out, true

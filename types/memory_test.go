@@ -2,6 +2,7 @@ package types_test
 
 import (
 	"slices"
+	"strings"
 	"sync"
 	"testing"
 	"unsafe"
@@ -192,6 +193,76 @@ func TestAnswersAreNew(t *testing.T) {
 	one.Name, one.Code = "other", api.ErrMany
 	if two.Name != "int" || two.Code != api.ErrTwice {
 		t.Error("Y5: errors share memory")
+	}
+}
+
+// overText writes over the bytes of texts that an answer has: nobody else has them.
+func overText(texts ...string) {
+	for _, s := range texts {
+		if s != "" {
+			clear(unsafe.Slice(unsafe.StringData(s), len(s)))
+		}
+	}
+}
+
+func overDatumTexts(d api.Datum) {
+	overText(d.Type)
+	for _, item := range d.Items {
+		overDatumTexts(item)
+	}
+}
+
+func overMethods(list []api.Method) {
+	for _, m := range list {
+		overText(m.Name)
+	}
+}
+
+// overAllTexts writes over the texts of whatever a table answers of some names, which are handed in as copies.
+func overAllTexts(t *testing.T, x *types.Table, spoken []string) {
+	t.Helper()
+	overText(x.Names()...)
+	overText(x.Protocols()...)
+	for _, name := range spoken {
+		of := strings.Clone(name)
+		fields, _ := x.Fields(of)
+		overText(fields...)
+		zero, _ := x.Zero(of)
+		overDatumTexts(zero)
+		list, _ := x.Wants(of)
+		overMethods(list)
+		for _, pointer := range []bool{false, true} {
+			overMethods(x.Methods(of, pointer))
+			for _, other := range spoken {
+				what := strings.Clone(other)
+				overText(x.Find(of, pointer, what).Type)
+				lacking, _ := x.Lacks(of, pointer, what)
+				overText(lacking)
+				if of != name || what != other {
+					t.Fatalf("Y5: an answer of %q and %q shares memory with what was handed in", name, other)
+				}
+			}
+		}
+	}
+}
+
+// The texts of an answer are new, too: neither the table's, nor those that were handed in.
+func TestTextsOfAnswersAreNew(t *testing.T) {
+	g := growing(9)
+	trees := []api.Node{read(t, examples)}
+	for len(trees) < 20 {
+		if n := g.program(); errorOf(n) == nil {
+			trees = append(trees, n)
+		}
+	}
+	for _, n := range trees {
+		spoken := append(modelOf(n).spoken(), "fault", "error", "any", "int", "Error", "nobody")
+		x, _ := types.Make(n)
+		want := everything(t, x, spoken)
+		overAllTexts(t, x, spoken)
+		if got := everything(t, x, spoken); got != want {
+			t.Fatalf("Y5: a text of an answer is the table's:\n%s", text(n))
+		}
 	}
 }
 
