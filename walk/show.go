@@ -1,0 +1,135 @@
+package walk
+
+import (
+	"guise/api"
+	"guise/number"
+)
+
+const tooLong = ".."
+
+// shown is a value as it is shown; false: that is longer than a text may be.
+func (p *program) shown(v value) (string, bool) {
+	w := &writer{program: p}
+	w.value(v, 0)
+	return string(w.out), !w.full()
+}
+
+// printed is a value as print tells it.
+func (p *program) printed(v value) (string, bool) {
+	if t, is := v.(text); is && t.name == "text" {
+		return t.s, len(t.s) <= api.MaxText
+	}
+	return p.shown(v)
+}
+
+// orDots is a text that was shown; dots, if that was too long.
+func orDots(s string, fits bool) string {
+	if !fits {
+		return tooLong
+	}
+	return s
+}
+
+// writer writes what is shown. What leads to itself, or to much, would be very long: as soon as too much stands there, nothing goes on.
+type writer struct {
+	program *program
+	out     []byte
+}
+
+func (w *writer) write(s string) { w.out = append(w.out, s...) }
+
+func (w *writer) full() bool { return len(w.out) > api.MaxText }
+
+// value writes one that stands within so many others.
+func (w *writer) value(v value, within int) {
+	switch {
+	case v == nil:
+		w.write("nil")
+	case v.kind() <= api.KText:
+		w.write(number.Show(datumOf(v)))
+	case leadsToNone(v):
+		w.write("nil(" + nameOf(v) + ")")
+	case v.kind() == api.KFunc:
+		w.named(v, "func", func() { w.write("func") })
+	case within == api.MaxShown:
+		w.write(tooLong)
+	default:
+		w.inside(v, within+1)
+	}
+}
+
+// inside writes a value in which others stand, that are within so many then.
+func (w *writer) inside(v value, within int) {
+	switch x := v.(type) {
+	case list:
+		w.named(x, "list", func() { w.list(x.items, within) })
+	case mapping:
+		w.named(x, "map", func() { w.entries(x.store, within) })
+	case *structure:
+		w.fields(x, within)
+	case pointer:
+		w.write("&")
+		w.value(x.read(), within)
+	}
+}
+
+// named writes a type's name around what is written, if it is not the kind's own.
+func (w *writer) named(v value, own string, inner func()) {
+	if v.named() == own {
+		inner()
+		return
+	}
+	w.write(v.named() + "(")
+	inner()
+	w.write(")")
+}
+
+func (w *writer) list(items []value, within int) {
+	w.write("[")
+	for i, v := range items {
+		if w.full() {
+			return
+		}
+		w.between(i)
+		w.value(v, within)
+	}
+	w.write("]")
+}
+
+func (w *writer) entries(s *store, within int) {
+	w.write("map{")
+	told := 0
+	for _, e := range s.entries {
+		if w.full() {
+			return
+		}
+		if e.gone {
+			continue
+		}
+		w.between(told)
+		w.value(e.key, within)
+		w.write(": ")
+		w.value(e.held, within)
+		told++
+	}
+	w.write("}")
+}
+
+func (w *writer) fields(s *structure, within int) {
+	w.write(s.name + "{")
+	for i, v := range s.items {
+		if w.full() {
+			return
+		}
+		w.between(i)
+		w.write(w.program.shapes[s.name].fields[i] + ": ")
+		w.value(v, within)
+	}
+	w.write("}")
+}
+
+func (w *writer) between(i int) {
+	if i > 0 {
+		w.write(", ")
+	}
+}

@@ -1,0 +1,232 @@
+package walk
+
+import (
+	"slices"
+
+	"guise/api"
+	"guise/number"
+)
+
+// value is a value of the language; nil itself is the language's nil.
+type value interface {
+	kind() int
+	named() string // its type; of a pointer what stands behind the *
+}
+
+type typed struct{ name string }
+
+func (t typed) named() string { return t.name }
+
+type boolean struct {
+	typed
+	yes bool
+}
+
+type integer struct {
+	typed
+	n int
+}
+
+type float struct {
+	typed
+	bits uint64
+}
+
+type text struct {
+	typed
+	s string
+}
+
+// list is a piece of an array, as a slice of Go's is; the nil list has no slice.
+type list struct {
+	typed
+	items []value
+}
+
+// mapping leads to a store; the nil map to none.
+type mapping struct {
+	typed
+	store *store
+}
+
+// function can be called by its callee; the nil func has none.
+type function struct {
+	typed
+	callee callee
+}
+
+// structure is never changed once it is made: so whoever has one has a copy.
+type structure struct {
+	typed
+	items []value
+	size  int
+}
+
+// pointer leads to an object, or to the part of it that a path of fields leads to; the nil one to none.
+type pointer struct {
+	typed
+	object *object
+	path   []int
+}
+
+// object is what pointers lead to. Its number tells it apart from others.
+type object struct {
+	number int
+	held   *structure
+}
+
+func (boolean) kind() int    { return api.KBool }
+func (integer) kind() int    { return api.KInt }
+func (float) kind() int      { return api.KFloat }
+func (text) kind() int       { return api.KText }
+func (list) kind() int       { return api.KList }
+func (mapping) kind() int    { return api.KMap }
+func (function) kind() int   { return api.KFunc }
+func (*structure) kind() int { return api.KStruct }
+func (pointer) kind() int    { return api.KPointer }
+
+func boolOf(yes bool) value    { return boolean{typed{"bool"}, yes} }
+func intOf(n int) value        { return integer{typed{"int"}, n} }
+func textOf(s string) value    { return text{typed{"text"}, s} }
+func listOf(l []value) value   { return list{typed{"list"}, l} }
+func funcOf(c callee) value    { return function{typed{"func"}, c} }
+func mapOf(s *store) value     { return mapping{typed{"map"}, s} }
+func sameType(a, b value) bool { return a.kind() == b.kind() && a.named() == b.named() }
+
+func newStructure(name string, items []value) *structure {
+	s := &structure{typed{name}, items, 1}
+	for _, item := range items {
+		s.size += sizeOf(item)
+	}
+	return s
+}
+
+func sizeOf(v value) int {
+	if s, is := v.(*structure); is {
+		return s.size
+	}
+	return 1
+}
+
+// with is the struct that has another value at the end of a path of fields.
+func (s *structure) with(path []int, v value) *structure {
+	if len(path) == 0 {
+		return v.(*structure)
+	}
+	items := slices.Clone(s.items)
+	if len(path) > 1 {
+		v = items[path[0]].(*structure).with(path[1:], v)
+	}
+	items[path[0]] = v
+	return newStructure(s.name, items)
+}
+
+// read is the struct to which a pointer, that leads to one, leads.
+func (p pointer) read() *structure {
+	s := p.object.held
+	for _, field := range p.path {
+		s = s.items[field].(*structure)
+	}
+	return s
+}
+
+// part is a pointer to what a path leads to from there.
+func (p pointer) part(name string, path []int) pointer {
+	return pointer{typed{name}, p.object, slices.Concat(p.path, path)}
+}
+
+func kindOf(v value) int {
+	if v == nil {
+		return api.KNil
+	}
+	return v.kind()
+}
+
+// nameOf is a value's type as it is told.
+func nameOf(v value) string { return number.Name(headOf(v)) }
+
+// headOf is a value as far as its type tells it.
+func headOf(v value) api.Datum {
+	if v == nil {
+		return api.Datum{}
+	}
+	return api.Datum{Kind: v.kind(), Type: v.named()}
+}
+
+// datumOf is a value as plain data, as far as layer 6 asks for it.
+func datumOf(v value) api.Datum {
+	d := headOf(v)
+	switch x := v.(type) {
+	case boolean:
+		if x.yes {
+			d.N = 1
+		}
+	case integer:
+		d.N = x.n
+	case float:
+		d.F = x.bits
+	case text:
+		d.S = x.s
+	}
+	return d
+}
+
+// valueOf is the bool, int, float or text that a datum tells.
+func valueOf(d api.Datum) value {
+	t := typed{d.Type}
+	switch d.Kind {
+	case api.KBool:
+		return boolean{t, d.N != 0}
+	case api.KInt:
+		return integer{t, d.N}
+	case api.KFloat:
+		return float{t, d.F}
+	}
+	return text{t, d.S}
+}
+
+// zeroOf is the value that chapter 5's zero of a struct type tells.
+func zeroOf(d api.Datum) value {
+	switch d.Kind {
+	case api.KPointer:
+		return pointer{typed: typed{d.Type}}
+	case api.KStruct:
+		items := make([]value, len(d.Items))
+		for i, item := range d.Items {
+			items[i] = zeroOf(item)
+		}
+		return newStructure(d.Type, items)
+	}
+	return nil
+}
+
+// leadsToNone: it is a nil list, map, func or pointer.
+func leadsToNone(v value) bool {
+	switch x := v.(type) {
+	case list:
+		return x.items == nil
+	case mapping:
+		return x.store == nil
+	case function:
+		return x.callee == nil
+	case pointer:
+		return x.object == nil
+	}
+	return false
+}
+
+// renamed is a list, map or func with another type.
+func renamed(v value, name string) value {
+	switch x := v.(type) {
+	case list:
+		x.name = name
+		return x
+	case mapping:
+		x.name = name
+		return x
+	case function:
+		x.name = name
+		return x
+	}
+	return v
+}
