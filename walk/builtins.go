@@ -102,9 +102,6 @@ func length(v value) int {
 
 // appended lays values down behind a list's: in its array, if that has room, else in a new one.
 func (r *run) appended(l list, more []value) value {
-	if len(more) == 0 {
-		return l
-	}
 	all := len(l.items) + len(more)
 	if all > cap(l.items) {
 		room := max(2*cap(l.items), all)

@@ -165,7 +165,6 @@ func (f *frame) guard(do func()) {
 	default:
 		panic(c)
 	}
-	f.run.top = f
 }
 
 // laid is a call that a defer laid down.

@@ -34,6 +34,11 @@ func TestPanics(t *testing.T) {
 		{`defer func() { defer func() { print(recover()) }(); print(recover()) }(); panic(1)`, "done: 1|nil"}, {`defer panic(1); defer caught(); panic(2)`, "panic: caught 2 {1}"}, {`defer caught(); defer panic(3); return 4`, "done: caught 3"},
 		{`g := func() { defer caught(); for { panic("loop") } }; g(); g()`, "done: caught loop|caught loop"}, {`g := func(n) { defer caught(); if n > 0 { panic(n) } }; for i in 3 { g(i) }`, "done: caught nil|caught 1|caught 2"},
 	})
+	taking := guards + "type T struct { }\nfunc (t T) take() { print(\"took\", recover()) }\ntype K = int\nfunc (k K) take() { print(\"K\", recover()) }\nprotocol P { take(0) }\ntype W struct { .P }\n"
+	wantRows(t, "00", taking, []row{
+		{`defer T{}.take(); panic(1)`, "done: took 1"}, {`f := T{}.take; defer f(); panic(1)`, "done: took 1"}, {`defer T.take(T{}); panic(1)`, "done: took 1"}, {`f := T.take; defer f(T{}); panic(1)`, "done: took 1"}, {`defer W{P: K(1)}.take(); panic(1)`, "done: K 1"}, {`defer W.take(W{P: W{P: T{}}}); panic(1)`, "done: took 1"}, {`defer func() { T{}.take() }(); panic(1)`, "panic: took nil {1}"}, {`T{}.take(); T.take(T{})`, "done: took nil|took nil"},
+		{`defer func() { defer recover() }(); panic(1)`, "panic:  {1}"}, {`defer func() { defer recover(); recover() }(); panic(1)`, "done: "}, {`defer func() { defer print(recover()) }(); panic(1)`, "done: 1"}, {`defer func() { defer caught(recover()) }(); panic(1)`, "panic:  <arguments|1 for 0>"},
+	})
 	want(t, "00", guards+"func g(n) { defer print(\"u\", n); if n == 0 { panic(\"deep\") }; g(n - 1) }\nfunc main() { defer caught(); g(2) }", "done: u 0|u 1|u 2|caught deep")
 	want(t, "00", guards+"var x = panic(7)\nfunc main() { print(1) }", "panic:  {7}")
 	want(t, "00", guards+"var x = f()\nfunc f() { defer caught(); panic(7) }\nfunc main() { print(x) }", "done: caught 7|nil")

@@ -39,7 +39,7 @@ func equalItems(a, b []value) (bool, string) {
 	return true, ""
 }
 
-// mark is one for all values that are equal, and for no others. It is asked only of values that are equal to themselves.
+// mark is one for all values that are equal, and for no others, of those that are equal to themselves.
 type mark struct {
 	kind int
 	name string

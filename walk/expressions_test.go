@@ -115,6 +115,14 @@ func TestEqual(t *testing.T) {
 // A text may be a key however long it is, and types of any name may.
 func TestOddKeys(t *testing.T) {
 	wantMain(t, "00", "", `s := "a"; for i in 16 { s += s }; m := map{s: 1, s[1:]: 2}; print(m[s], m[s[1:]], m[s[2:]], len(m))`, "done: 1 2 nil 2")
+	parts := "type T struct { a }\nfunc (t *T) me() { return t }\ntype E struct { .T; .D; x }\ntype D struct { .U; y }\ntype U struct { u }\nfunc (u *U) you() { return u }\n"
+	wantMain(t, "00", parts, `e := &E{}; f := &E{}; m := map{e: 1, e.me(): 2, e.you(): 3, f.me(): 4, nil(*T): 5}; print(m[e], m[e.me()], m[e.you()], m[f.me()], m[f.you()], m[nil(*T)], m[f], len(m))`, "done: 1 2 3 4 nil 5 nil 5")
+	wantMain(t, "00", parts, `e := &E{}; k := map{E{x: e.me()}: 1, E{x: e.you()}: 2}; print(k[E{x: e.me()}], k[E{x: e.you()}], k[E{x: e}], e.me() == e.me(), e.you() == (&E{}).you())`, "done: 1 2 nil true false")
+	wantMain(t, "00", "type Z struct { }\ntype T struct { a; b }\n", `m := map{Z{}: 1, nil(*Z): 2, T{a: Z{}}: 3, T{a: nil(*Z)}: 4, T{}: 5}; print(m[Z{}], m[nil(*Z)], m[T{a: Z{}}], m[T{a: nil(*Z)}], m[T{}])`, "done: 1 2 3 4 5")
+	wantMain(t, "00", "type T struct { a }\nfunc (t *T) me() { return t }\ntype A struct { .T }\nfunc (a *A) one() { return a.me() }\ntype B struct { .T }\nfunc (b *B) two() { return b.me() }\ntype E struct { .A; .B; e }\n", `e := &E{}; m := map{e.one(): 1, e.two(): 2, E{e: e.one()}: 3, E{e: e.two()}: 4}; print(e.one() == e.two(), len(m), m[e.one()], m[e.two()], m[E{e: e.one()}]); e.one().a = 7; print(e.A, e.B)`, "done: false 4 1 2 3|A{T: T{a: 7}} B{T: T{a: nil}}")
+	for _, sep := range []string{`"\x040  text  "`, `"\x040 4 text 1 "`, `" "`, `"\x000  "`, `""`} {
+		wantMain(t, "00", "type T struct { a; b }", `s := `+sep+`; m := map{T{a: "p" + s + "q", b: "r"}: 1}; x, ok := m[T{a: "p", b: "q" + s + "r"}]; print(ok)`, "done: false")
+	}
 	wantAlone(t, "00", "type pointer struct { a }\ntype struct_ = int\nfunc main() { p := pointer{a: 1}; q := &pointer{a: p}; m := map{p: 1, q: 2}; print(p == pointer{a: 1}, q == q, m[p], m[q], p, q, q.(*pointer).a.(pointer).a, struct_(1) == struct_(1)) }", "done: true true 1 2 pointer{a: 1} &pointer{a: pointer{a: 1}} 1 true")
 	wantAlone(t, "00", "type pointer = list\nfunc main() { print(pointer([]) == pointer([])) }", "panic:  <compare|pointer>")
 }

@@ -43,6 +43,10 @@ func TestMethods(t *testing.T) {
 		{`a := A{x: 1}; g := a.get; a.x = 2; print(g(), a.get(), g)`, "done: 1 2 func"}, {`p := &A{x: 1}; g := p.get; h := p.set; p.x = 2; h(5); print(g(), p.x)`, "done: 1 5"}, {`p := &B{}; h := p.set; p2 := p; h(5); print(p2.x, p2.A); *p = B{}; h(6); print(p.x)`, "done: 5 A{x: 5}|6"}, {`w := W{P: K(1)}; g := w.get; w.P = K(7); print(g(), w.get())`, "done: K(2) K(8)"}, {`c := C{A: &A{x: 1}}; g := c.get; h := c.set; c.A = &A{x: 2}; h(3); print(g(), c.x)`, "done: 1 2"},
 		{`g := W{}.get`, "panic:  <nil|method get>"}, {`g := nil(*A).get`, "panic:  <nil|method get>"}, {`g := nil(*A).set; print(1); g(1)`, "panic: 1 <nil|field x>"}, {`g := A{}.nobody`, "panic:  <missing|nobody of A>"}, {`g := (&A{}).get; g(1)`, "panic:  <arguments|1 for 0>"},
 	})
+	mixed := "type A struct { a }\nfunc (a *A) set(v) { a.a = v; return a }\ntype C struct { y; .A }\ntype D struct { .*C; d }\ntype E struct { x; .D }\n"
+	wantRows(t, "00", mixed, []row{
+		{`e := E{D: D{C: &C{}}}; f := e; p := e.set(5); print(f.a, f.C, p == f.set(6), f.D.C.A, p)`, "done: 5 &C{y: nil, A: A{a: 6}} true A{a: 6} &A{a: 6}"}, {`E{}.set(1)`, "panic:  <nil|method set>"}, {`(&E{}).set(1)`, "panic:  <nil|method set>"}, {`e := E{D: D{C: &C{}}}; g := e.set; e.D.C = &C{}; g(3); print(e.a)`, "done: nil"}, {`e := E{D: D{C: &C{}}}; e.a = 4; e.A.a += 1; e.y = 2; print(e)`, "done: E{x: nil, D: D{C: &C{y: 2, A: A{a: 5}}, d: nil}}"},
+	})
 	both := "type X struct { x; m }\ntype Y struct { x }\nfunc (y Y) n() { }\ntype Z struct { .X; .Y; .R }\nprotocol R { n(0); m(1) }\n"
 	wantRows(t, "00", both, []row{
 		{`print(Z{}.x)`, "panic:  <missing|x of Z twice>"}, {`Z{}.n()`, "panic:  <missing|n of Z twice>"}, {`(&Z{}).m = 1`, "panic:  <missing|m of *Z twice>"}, {`print(Z.n)`, "panic:  <missing|n of Z twice>"}, {`print((*Z).m)`, "panic:  <missing|m of *Z twice>"}, {`z := Z{}; z.x++`, "panic:  <missing|x of Z twice>"}, {`z := Z{}; z.X.x = 1; z.Y.x = 2; print(z.X, z.Y)`, "done: X{x: 1, m: nil} Y{x: 2}"}, {`print(Z{}.(R))`, "panic:  <conversion|Z is not R: no m>"},

@@ -88,8 +88,8 @@ func (p member) lay(r *run, v value) {
 
 // inside is the place of a field of what stands at this one.
 func (p member) inside(name string, field int) member {
-	p.names = append(p.names[:len(p.names):len(p.names)], name)
-	p.path = append(p.path[:len(p.path):len(p.path)], field)
+	p.names = append(p.names, name)
+	p.path = append(p.path, field)
 	return p
 }
 

@@ -7,16 +7,15 @@ import (
 
 // program is what is played, and what is asked of its types.
 type program struct {
-	table     *types.Table
-	shapes    map[string]shape
-	protocols map[string]protocol
-	found     map[question]api.Found
-	held      map[question]answer
-	vars      []declared
-	funcs     []*routine // declared functions, as they stand in the text
-	methods   map[question]*routine
-	main      *routine
-	numbers   int // loops and switches so far
+	table   *types.Table
+	shapes  map[string]shape
+	found   map[question]api.Found
+	held    map[wish]answer
+	vars    []declared
+	funcs   []*routine // declared functions, as they stand in the text
+	methods map[question]*routine
+	main    *routine
+	numbers int // loops and switches so far
 }
 
 // shape is a struct type's fields, how each is embedded, and its zero.
@@ -25,8 +24,6 @@ type shape struct {
 	embeds []int
 	zero   *structure
 }
-
-type protocol struct{ is bool }
 
 // declared is a variable of the program.
 type declared struct {
@@ -37,12 +34,11 @@ type declared struct {
 // built makes a program of its parts.
 func built(p *part, table *types.Table) *program {
 	out := &program{
-		table:     table,
-		shapes:    map[string]shape{},
-		protocols: map[string]protocol{"any": {true}},
-		found:     map[question]api.Found{},
-		held:      map[question]answer{},
-		methods:   map[question]*routine{},
+		table:   table,
+		shapes:  map[string]shape{},
+		found:   map[question]api.Found{},
+		held:    map[wish]answer{},
+		methods: map[question]*routine{},
 	}
 	for _, name := range table.Names() {
 		if zero, is := table.Zero(name); is {
@@ -50,9 +46,6 @@ func built(p *part, table *types.Table) *program {
 			embeds, _ := table.Embeds(name)
 			out.shapes[name] = shape{fields, embeds, zeroOf(zero).(*structure)}
 		}
-	}
-	for _, name := range table.Protocols() {
-		out.protocols[name] = protocol{true}
 	}
 	for _, d := range p.kids {
 		out.declare(d)

@@ -144,8 +144,16 @@ func TestLongLines(t *testing.T) {
 		{double + `print([s[:65533]])`, "panic"},
 		{double + `x := show(s[:65534])`, "done"},
 		{double + `x := show(s[:65535])`, "panic"},
+		{double + `for i in 13 { make(65536) }; make(1000); x := show([s])`, "panic"},
+		{double + `for i in 13 { make(65536) }; make(1000); x := show(s[:65500])`, "full"},
+		{double + `for i in 13 { make(65536) }; make(1000); print(s, [s])`, "panic"},
+		{double + `for i in 13 { make(65536) }; make(1000); e := &fault{word: s, more: s}; e.Error()`, "panic"},
+		{double + `for i in 13 { make(65536) }; make(1000); x := s + s`, "count"},
 	} {
 		o, err := walk.Text("func main() { "+c.s+" }", 1000, 5)
+		if c.must == "count" && toldError(err) == "<count|131072>" {
+			continue
+		}
 		if endNames[o.End] != c.must || c.must == "panic" && toldError(err) != "<count|65537>" {
 			t.Errorf("00: %s: %s", brief(c.s), brief(told(o, err)))
 		}

@@ -6,7 +6,7 @@ import (
 	"guise/types"
 )
 
-// question is what is asked of a type, or of a pointer to it: what a name is there, or whether it has all that a protocol wants.
+// question is what is asked of a type, or of a pointer to it.
 type question struct {
 	name    string
 	pointer bool
@@ -27,19 +27,24 @@ func (p *program) find(q question) api.Found {
 	return found
 }
 
-// answer is whether a type has all that a protocol wants.
+// wish is whether a type, or a pointer to it, is what is wanted, or has all that it wants; star: a pointer is wanted.
+type wish struct {
+	question
+	star bool
+}
+
 type answer struct{ yes bool }
 
 // holds is chapter 8's answer, kept likewise.
 func (p *program) holds(v value, want string, star bool) bool {
-	if !p.protocols[want].is || star || v == nil {
-		return assert.Holds(p.table, headOf(v), want, star)
+	if v == nil {
+		return false
 	}
-	q := asked(v, want)
-	a, kept := p.held[q]
+	w := wish{asked(v, want), star}
+	a, kept := p.held[w]
 	if !kept {
 		a.yes = assert.Holds(p.table, headOf(v), want, star)
-		p.held[q] = a
+		p.held[w] = a
 	}
 	return a.yes
 }

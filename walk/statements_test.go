@@ -33,6 +33,7 @@ func TestRanges(t *testing.T) {
 		{`m := map{1: "a", 2: "b"}; for k, v in m { k = 7; v = 8; print(k, v) }; print(m)`, `done: 7 8|7 8|map{1: "a", 2: "b"}`},
 		{`m := map{1: "a", 2: "b"}; for k in m { for j in m { print(k, j) }; delete(m, 2) }`, "done: 1 1|1 2"},
 		{`n := 0.0 / 0.0; m := map{n: 1, 2: 3, n: 4}; for k, v in m { m[n] = 5; delete(m, 2); print(k, v) }; print(len(m))`, "done: nan 1|nan 4|4"},
+		{`m := map{1: 1, 2: 2, 3: 3}; delete(m, 1); m[1] = 4; for k, v in m { print(k, v) }; print(m)`, "done: 2 2|3 3|1 4|map{2: 2, 3: 3, 1: 4}"},
 		{`m := map{1: 1}; for k in m { m = map{7: 7}; print(k) }; print(m)`, "done: 1|map{7: 7}"},
 		{`g := []; for k, v in map{1: 2, 3: 4} { g = append(g, func() { k += v; return k }) }; print(g[0](), g[0](), g[1]())`, "done: 3 5 7"},
 	})
@@ -57,6 +58,8 @@ func TestPlaces(t *testing.T) {
 func (t *T) me() { return t }
 func (u *U) up(x) { u.u = x; return u }
 `
+	want(t, "00", declared+"var g = T{a: 1}\nvar l = [g]\nfunc main() { h := g; g.a = 5; g.b = T{}; g.b.a++ }\n", "panic:  <operand|++ nil>")
+	want(t, "00", declared+"var g = T{a: 1}\nvar l = [g]\nfunc main() { h := g; g.a = 5; g.b = T{a: 3}; g.b.a++; l[0].a = 7; func() { g.b.b = 9 }(); print(g, h, l) }\n", "done: T{a: 5, b: T{a: 4, b: 9}} T{a: 1, b: nil} [T{a: 7, b: nil}]")
 	wantRows(t, "00", declared, []row{
 		{`x := 1; x = 2; print(x)`, "done: 2"}, {`count = 5; print(count)`, "done: 5"}, {`x := T{a: 1}; y := x; y.a = 2; print(x, y)`, "done: T{a: 1, b: nil} T{a: 2, b: nil}"},
 		{`p := &T{a: 1}; q := p; q.a = 2; *p = T{b: 3}; print(*q, p == q)`, "done: T{a: nil, b: 3} true"}, {`l := [T{}, T{}]; l[1].a = 2; x := l[1]; x.a = 3; print(l)`, "done: [T{a: nil, b: nil}, T{a: 2, b: nil}]"},

@@ -16,15 +16,10 @@ func newStore() *store { return &store{marked: map[mark]*entry{}} }
 
 func (s *store) len() int { return len(s.entries) - s.lost }
 
-// find is a key's entry; nil: there is none. What is not equal to itself is never found.
-func (s *store) find(key value) *entry {
-	if same, _ := equal(key, key); !same {
-		return nil
-	}
-	return s.marked[markOf(key)]
-}
+// find is a key's entry; nil: there is none.
+func (s *store) find(key value) *entry { return s.marked[markOf(key)] }
 
-// add lays an entry behind all others; its key has none.
+// add lays an entry behind all others; its key has none. What is not equal to itself is never found again: it is not marked.
 func (s *store) add(key, held value) {
 	e := &entry{key: key, held: held}
 	s.entries = append(s.entries, e)

@@ -224,9 +224,8 @@ func renamed(v value, name string) value {
 	case mapping:
 		x.name = name
 		return x
-	case function:
-		x.name = name
-		return x
 	}
-	return v
+	f := v.(function)
+	f.name = name
+	return f
 }
