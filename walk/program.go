@@ -31,8 +31,8 @@ type declared struct {
 	made expr
 }
 
-// built makes a program of its parts.
-func built(p *part, table *types.Table) *program {
+// programOf makes a program of its parts.
+func programOf(p *part, table *types.Table) *program {
 	out := &program{
 		table:   table,
 		shapes:  map[string]shape{},
