@@ -147,6 +147,43 @@ func one(g) { defer func() { recover() }(); g(); return "yes" }
 	}
 }
 
+// The same of types by chance; and a switch takes the first case whose assertion holds, in whatever order they stand.
+func TestAssertionsByChance(t *testing.T) {
+	g := growing(dice(24))
+	held := 0
+	for range 25 {
+		g.program()
+		declared := g.types() + g.methodsOf(func([]grownVariable) string { return "{ }" }) + "func one(g) { defer func() { recover() }(); g(); return true }\n"
+		var out strings.Builder
+		for _, v := range []string{"nil", "1", "K(1)", "S(\"\")", "L([])", "nil(L)", "A{}", "&A{}", "nil(*C)", "C{}", "&D{}", "D{}", "nil(*E)", "E{}", "&W{}", "W{}"} {
+			out.WriteString("v := " + v + "; w := -1; ")
+			cases, types := "", []string{}
+			for i := range 6 {
+				want := g.typeName()
+				types = append(types, want)
+				cases += fmt.Sprintf("case %s: s = %d; ", want, i)
+			}
+			for i, want := range types {
+				fmt.Fprintf(&out, "{ x, ok := v.(%s); if ok { print(\"held\") }; if ok && w < 0 { w = %d }; p := one(func() { y := v.(%s) }) == true; q := false; switch v.(type) { case %s: q = true }; if ok != p || ok != q || ok == (x == nil) { print(\"differ\", %d) } }; ", want, i, want, want, i)
+			}
+			out.WriteString("s := -1; switch v.(type) { " + cases + "}; if s != w { print(\"first\", s, w) }; ")
+			s := declared + "func main() { " + out.String() + "}"
+			if _, may := mayBe(t, s); !may {
+				t.Fatalf("no program: %s", s)
+			}
+			o, err := walk.Text(s, 1000, 10)
+			held += len(o.Out)
+			if got := told(o, err); strings.ReplaceAll(strings.ReplaceAll(got, "held", ""), "|", "") != "done: " {
+				t.Fatalf("W7: %s of\n%s", got, s)
+			}
+			out.Reset()
+		}
+	}
+	if held < 100 {
+		t.Errorf("only %d assertions held by chance", held)
+	}
+}
+
 // What holds a protocol has its methods; a pointer to none is told to them.
 func TestWhatHoldsCanBeCalled(t *testing.T) {
 	declared := `

@@ -42,11 +42,7 @@ func (g *grower) fresh(prefix string) string {
 func (g *grower) program() string {
 	g.structs, g.scopes, g.names, g.funcs, g.left = nil, [][]grownVariable{nil}, 0, nil, 14
 	var out strings.Builder
-	out.WriteString("type K = int\ntype L = list\ntype M = map\ntype F = func\ntype B = bool\ntype S = text\ntype G = float\n")
-	out.WriteString("protocol P { get(0) }\nprotocol Q { P; set(1) }\nprotocol R { low(0) }\n")
-	for _, name := range []string{"A", "C", "D", "E", "W"} {
-		out.WriteString(g.structure(name))
-	}
+	out.WriteString(g.types())
 	for range 3 {
 		g.funcs = append(g.funcs, fmt.Sprint("f", len(g.funcs)))
 	}
@@ -102,6 +98,16 @@ func underOf(kind string) string {
 	return map[string]string{"K": "int", "L": "list", "M": "map", "F": "func", "B": "bool", "S": "text", "G": "float"}[kind]
 }
 
+// types declares types and protocols.
+func (g *grower) types() string {
+	g.structs = nil
+	out := "type K = int\ntype L = list\ntype M = map\ntype F = func\ntype B = bool\ntype S = text\ntype G = float\nprotocol P { get(0) }\nprotocol Q { P; set(1) }\nprotocol R { low(0) }\n"
+	for _, name := range []string{"A", "C", "D", "E", "W"} {
+		out += g.structure(name)
+	}
+	return out
+}
+
 // structure declares a struct type that embeds some of those ahead of it.
 func (g *grower) structure(name string) string {
 	s := grownStruct{name: name}
@@ -119,7 +125,7 @@ func (g *grower) structure(name string) string {
 		}
 	}
 	for _, e := range []string{".P", ".Q", ".R", ".error", ".*fault", ".fault", ".*" + name} {
-		if g.chance(7) && !(e == ".*fault" && strings.Contains(strings.Join(s.embeds, " "), "fault")) && len(s.embeds) < 4 {
+		if g.chance(7) && !(strings.HasSuffix(e, "fault") && strings.Contains(strings.Join(s.embeds, " "), "fault")) && len(s.embeds) < 4 {
 			s.embeds = append(s.embeds, e)
 		}
 	}
@@ -131,6 +137,13 @@ func (g *grower) structure(name string) string {
 
 // methods declares some, of struct types and others, by value and by pointer.
 func (g *grower) methods() string {
+	return g.methodsOf(func(params []grownVariable) string {
+		g.left = 3
+		return g.body(params, 2, false)
+	})
+}
+
+func (g *grower) methodsOf(body func(params []grownVariable) string) string {
 	var out strings.Builder
 	for _, on := range []string{"A", "C", "D", "E", "W", "K", "L", "S"} {
 		for _, m := range []string{"get", "set", "low", "Error"} {
@@ -147,8 +160,7 @@ func (g *grower) methods() string {
 				params = append(params, grownVariable{g.fresh("p"), "any"})
 				list = params[1].name
 			}
-			g.left = 3
-			out.WriteString("func (" + params[0].name + " " + receiver + ") " + m + "(" + list + ") " + g.body(params, 2, false) + "\n")
+			out.WriteString("func (" + params[0].name + " " + receiver + ") " + m + "(" + list + ") " + body(params) + "\n")
 		}
 	}
 	return out.String()

@@ -11,7 +11,10 @@ const tooLong = ".."
 func (p *program) shown(v value) (string, bool) {
 	w := &writer{program: p}
 	w.value(v, 0)
-	return string(w.out), !w.full()
+	if w.full() {
+		return "", false
+	}
+	return string(w.out), true
 }
 
 // printed is a value as print tells it.
