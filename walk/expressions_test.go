@@ -88,6 +88,7 @@ func TestOperations(t *testing.T) {
 		{`print(true && tick(true), false && tick(true), true || tick(true), false || tick(false))`, "done: t 1 true|t 2 false|true false true false"},
 		{`print(1 && true)`, "panic:  <operand|&& int>"}, {`print(true && 1)`, "panic:  <operand|&& bool int>"}, {`print(B(true) && true)`, "panic:  <operand|&& B>"}, {`print(false || B(true))`, "panic:  <operand||| bool B>"}, {`print(nil || true)`, "panic:  <operand||| nil>"}, {`print(false || nil)`, "panic:  <operand||| bool nil>"},
 		{`print(true || 1, false && 1)`, "done: true false"},
+		{`x := 1; print(x + func() { x = 10; return x }(), x); s := "a"; print(s + func() { s = "b"; return s }() + s)`, "done: 11 10|abb"}, {`l := [1, 2]; print(l[func() { l = [9]; return 1 }()], [l, func() { l[0] = 8; return 0 }(), l]); x := T{a: 1}; print([x, func() { x.a = 2; return 0 }(), x])`, "done: 2 [[8], 0, [8]]|[T{a: 1, b: nil}, 0, T{a: 2, b: nil}]"},
 	})
 }
 
