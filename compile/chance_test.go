@@ -32,7 +32,7 @@ func grownProgram(t testing.TB, seed uint64) (string, api.Node, bool) {
 // The code is right, and does what walk does, whatever the fuel and the depth are.
 func TestByChance(t *testing.T) {
 	t.Parallel()
-	count, done := map[string]int{}, map[code.Op]int{}
+	count, laid := map[string]int{}, map[code.Op]int{}
 	for seed := range uint64(400) {
 		s, n, may := grownProgram(t, seed)
 		if !may {
@@ -40,7 +40,12 @@ func TestByChance(t *testing.T) {
 		}
 		r := compiled(t, s, n)
 		whole := r.alike(t, 700, 12)
-		whole.count(count, done)
+		whole.count(count)
+		for _, f := range r.code.Funcs {
+			for _, in := range f.Code {
+				laid[in.Op]++
+			}
+		}
 		g := growing(seed)
 		for range 3 {
 			count[endNames[r.alike(t, g.IntN(whole.Steps+2), 1+g.IntN(12)).End]]++
@@ -52,23 +57,20 @@ func TestByChance(t *testing.T) {
 		}
 	}
 	for op := code.OpStep; op <= code.OpDrop; op++ {
-		if done[op] < 5 {
-			t.Errorf("operation %d was done %d times by chance", op, done[op])
+		if laid[op] < 5 {
+			t.Errorf("operation %d was laid down %d times by chance", op, laid[op])
 		}
 	}
 }
 
 // count counts what was done in a run.
-func (s story) count(count map[string]int, done map[code.Op]int) {
+func (s story) count(count map[string]int) {
 	count[endNames[s.End]]++
 	for _, e := range s.events {
 		count[fmt.Sprint("event ", e.Kind)]++
 		if word, is := strings.CutPrefix(e.Text, `&fault{word: "`); is && e.Kind == 5 {
 			count[word[:strings.IndexByte(word, '"')]]++
 		}
-	}
-	for op, n := range s.done {
-		done[op] += n
 	}
 }
 
@@ -214,9 +216,6 @@ func FuzzText(f *testing.F) {
 			if wrongText(terr) != wrongText(err) || p.Funcs != nil {
 				t.Errorf("C1: %q: %v; must be %v", s, terr, err)
 			}
-			return
-		}
-		if strings.Contains(s, "pointer") { // the player's heap has no values of a type called so
 			return
 		}
 		if perr := asPromised(t, s, n); wrongText(perr) != wrongText(terr) {

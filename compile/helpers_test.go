@@ -10,6 +10,7 @@ import (
 	"guise/api"
 	"guise/code"
 	"guise/compile"
+	"guise/machine"
 	"guise/parse"
 	"guise/types"
 	"guise/walk"
@@ -38,6 +39,13 @@ func brief(s string) string {
 
 var endNames = []string{"none", "done", "panic", "spent", "overflow", "full"}
 
+// story is all that is told of a run.
+type story struct {
+	api.Outcome
+	err    error
+	events []api.Event
+}
+
 // panicText is by which panic a run ended.
 func (s story) panicText() string {
 	p, is := s.err.(*api.Panicked)
@@ -58,7 +66,7 @@ func (s story) same(o story) bool {
 	return s.End == o.End && s.Steps == o.Steps && slices.Equal(s.Out, o.Out) && slices.Equal(s.events, o.events) && s.panicText() == o.panicText()
 }
 
-// String is all of it, but for the operations: the end in the first line, then the lines, then the events.
+// String is all of it: the end in the first line, then the lines, then the events.
 func (s story) String() string {
 	var out strings.Builder
 	fmt.Fprintln(&out, endNames[s.End], s.Steps, "steps", s.panicText())
@@ -75,6 +83,18 @@ func (s story) String() string {
 func walked(n api.Node, fuel, depth int) story {
 	var s story
 	s.Outcome, s.err = walk.Watch(n, fuel, depth, func(e api.Event) { s.events = append(s.events, e) })
+	return s
+}
+
+// played is what a machine does with code that it takes.
+func played(p code.Program, t *types.Table, fuel, depth int) story {
+	var s story
+	m, err := machine.New(p, t, depth)
+	if err != nil {
+		return story{err: err}
+	}
+	m.Watch(func(e api.Event) { s.events = append(s.events, e) })
+	s.Outcome, s.err = m.Run(fuel)
 	return s
 }
 
@@ -100,8 +120,8 @@ func compiled(t testing.TB, text string, n api.Node) run {
 	if err != nil {
 		t.Fatal(err)
 	}
-	if wrong := refused(p, table); wrong != "" {
-		t.Fatalf("C3: no machine takes the code: %s\n%s", wrong, brief(text))
+	if _, err := machine.New(p, table, 1); err != nil {
+		t.Fatalf("C3: no machine takes the code: %v\n%s", err, brief(text))
 	}
 	return run{text, n, p, table}
 }
@@ -138,52 +158,6 @@ func difference(got, must string) string {
 		}
 	}
 	return ""
-}
-
-// refused reads chapter 16's P16.1: why a machine would not take code that is right.
-func refused(p code.Program, t *types.Table) string {
-	for number, f := range p.Funcs {
-		for i, in := range f.Code {
-			if !such(t, in) {
-				return fmt.Sprint("function ", number, " instruction ", i, " ", in.Text)
-			}
-		}
-	}
-	for _, name := range t.Names() {
-		for _, pointer := range []bool{false, true} {
-			for _, method := range t.Methods(name, pointer) {
-				found := t.Find(name, pointer, method.Name)
-				wants := func(f code.Func) bool {
-					return f.Around == -1 && f.Name == found.Type+"."+method.Name && f.Params == found.Count+1
-				}
-				if found.Kind == api.FoundMethod && found.Type != "fault" && !slices.ContainsFunc(p.Funcs[1:], wants) {
-					return found.Type + "." + method.Name
-				}
-			}
-		}
-	}
-	return ""
-}
-
-// such: the types that an instruction names are those that it may name.
-func such(t *types.Table, in code.Inst) bool {
-	words := strings.Split(in.Text, " ")
-	kind, known := t.Under(words[0])
-	switch in.Op {
-	case code.OpNilOf:
-		return in.A == 0 && slices.Contains([]int{api.KList, api.KMap, api.KFunc}, kind) || in.A == 1 && kind == api.KStruct
-	case code.OpConvert:
-		return kind == in.A
-	case code.OpExpression:
-		return known && (in.A == 0 || kind == api.KStruct)
-	case code.OpStruct:
-		fields, _ := t.Fields(words[0])
-		return kind == api.KStruct && !slices.ContainsFunc(words[1:], func(f string) bool { return !slices.Contains(fields, f) })
-	case code.OpAssert, code.OpHolds:
-		_, protocol := t.Wants(in.Text)
-		return in.A == 0 && (known || protocol) || in.A == 1 && kind == api.KStruct || in.A == 2
-	}
-	return true
 }
 
 // wrongText is an error in one text.

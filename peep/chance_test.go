@@ -47,8 +47,8 @@ func TestByChance(t *testing.T) {
 		}
 	}
 	for o := code.OpStep; o <= code.OpDrop; o++ {
-		if seen["did "+opNames[o]] < 5 {
-			t.Errorf("%s was done %d times by chance", opNames[o], seen["did "+opNames[o]])
+		if seen["has "+opNames[o]] < 5 {
+			t.Errorf("%s came %d times by chance", opNames[o], seen["has "+opNames[o]])
 		}
 	}
 }
@@ -74,6 +74,32 @@ func playByChance(t *testing.T, table *types.Table, r *rand.Rand, seen map[strin
 	}
 }
 
+// narrow is a program that takes all room but so much ahead of all else.
+func narrow(p code.Program, left int) code.Program {
+	var ahead []code.Inst
+	for taken := 0; taken < api.MaxRoom-left; taken += api.MaxMake {
+		ahead = append(ahead, num(min(api.MaxMake, api.MaxRoom-left-taken)), built("make", 1), pop)
+	}
+	p = apart(p)
+	p.Funcs[0].Code = inRow(ahead, moved(len(ahead), p.Funcs[0].Code))
+	return p
+}
+
+// Where there is little room it is Full at the same instruction: what is made shorter takes as much.
+func TestRoomByChance(t *testing.T) {
+	t.Parallel()
+	table, r, full := tableOf(t, world), dice(7), 0
+	for range 300 {
+		p := narrow(grown(r), r.IntN(80))
+		if alike(t, p, shorter(t, p), table, 12, 400).last().End == api.Full {
+			full++
+		}
+	}
+	if full < 50 {
+		t.Errorf("%d were full by chance", full)
+	}
+}
+
 // tally counts what was done.
 func tally(seen map[string]int, s story, p, q code.Program) {
 	seen[endNames[s.last().End]]++
@@ -83,8 +109,10 @@ func tally(seen map[string]int, s story, p, q code.Program) {
 			seen[word[:strings.IndexByte(word, '"')]]++
 		}
 	}
-	for o, n := range s.done {
-		seen["did "+opNames[code.Op(o)]] += n
+	for _, f := range p.Funcs {
+		for _, in := range f.Code {
+			seen["has "+opNames[in.Op]]++
+		}
 	}
 	if count(q) < count(p) {
 		seen["shorter"]++
@@ -203,9 +231,8 @@ func FuzzBytes(f *testing.F) {
 		if err != nil {
 			p = code.Program{}
 		}
-		if strings.Contains(b, "pointer") || len(b) > api.MaxSource { // the player's heap has no values of a type called so
-			return
+		if len(b) <= api.MaxSource {
+			asPromised(t, p, tableOf(t, world))
 		}
-		asPromised(t, p, tableOf(t, world))
 	})
 }

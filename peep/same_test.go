@@ -8,8 +8,46 @@ import (
 
 	"guise/api"
 	"guise/code"
+	"guise/machine"
 	"guise/types"
 )
+
+// story is all that is told of a program that is played: what each Run answered, the last one's error, the events.
+type story struct {
+	runs   []api.Outcome
+	err    error
+	events []api.Event
+}
+
+// last is what the last Run answered.
+func (s story) last() api.Outcome { return s.runs[len(s.runs)-1] }
+
+// played plays code that a machine takes, in pieces of fuel, up to its end.
+func played(p code.Program, t *types.Table, depth int, pieces ...int) story {
+	var s story
+	m, err := machine.New(p, t, depth)
+	if err != nil {
+		return story{runs: make([]api.Outcome, 1), err: err}
+	}
+	m.Watch(func(e api.Event) { s.events = append(s.events, e) })
+	for _, fuel := range pieces {
+		var o api.Outcome
+		o, s.err = m.Run(fuel)
+		s.runs = append(s.runs, o)
+		if m.Over() {
+			break
+		}
+	}
+	return s
+}
+
+// refused tells why a machine does not take code that is right.
+func refused(p code.Program, t *types.Table) string {
+	if _, err := machine.New(p, t, 1); err != nil {
+		return told(err)
+	}
+	return ""
+}
 
 var endNames = []string{"none", "done", "panic", "spent", "overflow", "full"}
 
@@ -34,16 +72,16 @@ func sameOutcome(a, b api.Outcome) bool {
 
 // same: two plays are alike in all that is told of them.
 func (s story) same(o story) bool {
-	return slices.EqualFunc(s.runs, o.runs, sameOutcome) && slices.Equal(s.events, o.events) && s.panicText() == o.panicText() && s.room == o.room
+	return slices.EqualFunc(s.runs, o.runs, sameOutcome) && slices.Equal(s.events, o.events) && s.panicText() == o.panicText()
 }
 
-// String is all of it, but for the operations: the ends in the first lines, then the lines, then the events.
+// String is all of it: the ends in the first lines, then the lines, then the events.
 func (s story) String() string {
 	var out strings.Builder
 	for _, r := range s.runs {
 		fmt.Fprintln(&out, endNames[r.End], r.Steps, "steps", len(r.Out), "lines")
 	}
-	fmt.Fprintln(&out, s.panicText(), "room", s.room)
+	fmt.Fprintln(&out, s.panicText())
 	for _, line := range s.last().Out {
 		fmt.Fprintf(&out, "%q\n", line)
 	}
@@ -72,50 +110,4 @@ func difference(got, must string) string {
 		}
 	}
 	return ""
-}
-
-// refused reads chapter 16's P16.1: why a machine would not take code that is right.
-func refused(p code.Program, t *types.Table) string {
-	for number, f := range p.Funcs {
-		for i, in := range f.Code {
-			if !such(t, in) {
-				return fmt.Sprint("function ", number, " instruction ", i, " ", in.Text)
-			}
-		}
-	}
-	for _, name := range t.Names() {
-		for _, pointer := range []bool{false, true} {
-			for _, method := range t.Methods(name, pointer) {
-				found := t.Find(name, pointer, method.Name)
-				wants := func(f code.Func) bool {
-					return f.Around == -1 && f.Name == found.Type+"."+method.Name && f.Params == found.Count+1
-				}
-				if found.Kind == api.FoundMethod && found.Type != "fault" && !slices.ContainsFunc(p.Funcs[1:], wants) {
-					return found.Type + "." + method.Name
-				}
-			}
-		}
-	}
-	return ""
-}
-
-// such: the types that an instruction names are those that it may name.
-func such(t *types.Table, in code.Inst) bool {
-	words := strings.Split(in.Text, " ")
-	kind, known := t.Under(words[0])
-	switch in.Op {
-	case code.OpNilOf:
-		return in.A == 0 && slices.Contains([]int{api.KList, api.KMap, api.KFunc}, kind) || in.A == 1 && kind == api.KStruct
-	case code.OpConvert:
-		return kind == in.A
-	case code.OpExpression:
-		return known && (in.A == 0 || kind == api.KStruct)
-	case code.OpStruct:
-		fields, _ := t.Fields(words[0])
-		return kind == api.KStruct && !slices.ContainsFunc(words[1:], func(f string) bool { return !slices.Contains(fields, f) })
-	case code.OpAssert, code.OpHolds:
-		_, protocol := t.Wants(in.Text)
-		return in.A == 0 && (known || protocol) || in.A == 1 && kind == api.KStruct || in.A == 2
-	}
-	return true
 }

@@ -65,7 +65,6 @@ func textAlike(t testing.TB, s string, seen map[string]int, plays ...[2]int) {
 		walked.runs[0], walked.err = walk.Watch(n, play[0], play[1], func(e api.Event) { walked.events = append(walked.events, e) })
 		got := alike(t, p, q, table, play[1], play[0])
 		tally(seen, got, p, q)
-		walked.room = got.room
 		if got := played(q, table, play[1], play[0]); !got.same(walked) {
 			t.Fatalf("T2: fuel %d, depth %d: %s\n%s\n%s", play[0], play[1], difference(got.String(), walked.String()), s, brief(written(q)))
 		}

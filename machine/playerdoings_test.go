@@ -1,7 +1,8 @@
-package peep_test
+package machine_test
 
 import (
 	"fmt"
+	"slices"
 	"strconv"
 	"strings"
 
@@ -232,7 +233,7 @@ func jumps() map[code.Op]doing {
 		code.OpTurn: func(m *player, c *playing, in code.Inst) { c.lay(m.turns(c.value())) },
 		code.OpNext: func(m *player, c *playing, in code.Inst) {
 			t := c.off().(turn)
-			key, held, more := t()
+			key, held, more := t.next()
 			if !more {
 				c.next = in.A
 				return
@@ -270,12 +271,12 @@ func callings() map[code.Op]doing {
 			args := c.values(in.A)
 			f := c.value()
 			m.isFunc(f)
-			c.laid = append(c.laid, func() { m.invoke(f, args, in.At, c) })
+			c.laid = append(c.laid, laidDown{func() { m.invoke(f, args, in.At, c) }, append([]api.Datum{f}, args...)})
 			m.event(4, in.At, "")
 		},
 		code.OpDeferBuilt: func(m *player, c *playing, in code.Inst) {
 			args := c.values(in.A)
-			c.laid = append(c.laid, func() { m.built(in.Text, args, nil) })
+			c.laid = append(c.laid, laidDown{func() { m.built(in.Text, args, nil) }, args})
 			m.event(4, in.At, "")
 		},
 	}
@@ -377,12 +378,12 @@ func (m *player) slice(c *playing, in code.Inst) api.Datum {
 func (m *player) turns(e api.Datum) turn {
 	i := -1
 	counted := func(n int, held func(i int) api.Datum) turn {
-		return func() (api.Datum, api.Datum, bool) {
+		return turn{func() (api.Datum, api.Datum, bool) {
 			if i++; i >= n {
 				return api.Datum{}, api.Datum{}, false
 			}
 			return integer(i), held(i), true
-		}
+		}, []api.Datum{e}}
 	}
 	switch e.Kind {
 	case api.KInt:
@@ -395,14 +396,14 @@ func (m *player) turns(e api.Datum) turn {
 		return m.entries(e)
 	}
 	m.fault("operand", "in", typeOf(e))
-	return nil
+	return turn{}
 }
 
 func (m *player) entries(e api.Datum) turn {
 	keys, values := m.heap.Keys(e)
 	m.take(len(keys))
 	i := -1
-	return func() (api.Datum, api.Datum, bool) {
+	return turn{func() (api.Datum, api.Datum, bool) {
 		for i++; i < len(keys); i++ {
 			if same, _ := value.Equal(keys[i], keys[i]); !same { // nobody finds it, so it can't have gone
 				return keys[i], values[i], true
@@ -415,5 +416,5 @@ func (m *player) entries(e api.Datum) turn {
 			}
 		}
 		return api.Datum{}, api.Datum{}, false
-	}
+	}, slices.Concat([]api.Datum{e}, keys, values)}
 }

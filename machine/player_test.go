@@ -1,8 +1,9 @@
-package compile_test
+package machine_test
 
 import (
 	"errors"
 	"fmt"
+	"slices"
 	"strings"
 
 	"guise/api"
@@ -12,16 +13,17 @@ import (
 	"guise/types"
 )
 
-// A reading of chapter 16: code is played instruction by instruction. Values are plain data, what they lead to lies in a heap (chapter 10). What is on the stack and is not what an instruction takes is a panic of Go's: right code never comes there.
+// A second reading of chapter 16, against which machines are held: code is played instruction by instruction. Values are plain data, what they lead to lies in a heap (chapter 10). What is on the stack and is not what an instruction takes is a panic of Go's: right code never comes there.
 
 type player struct {
 	program     code.Program
 	table       *types.Table
 	heap        *heap.Heap
-	doing       map[code.Op]doing
-	done        map[code.Op]int
-	builtIns    map[string]builtIn
-	fuel, depth int
+	done        [code.OpDrop + 1]int
+	pieces      []int // the fuel of this Run, and of those behind it
+	spent       int   // of this one's
+	runs        []api.Outcome
+	depth       int
 	steps, room int
 	level       int // calls that are being run
 	out         []string
@@ -31,15 +33,26 @@ type player struct {
 	callables   []callable        // by the code's numbers of the heap's functions
 	objects     map[int]string    // of what type objects are
 	top         *playing
+	frames      []*playing  // all calls that are being run
+	handed      []api.Datum // what is about to be called, with its arguments
+	counts      [][3]int
 }
 
 type doing func(m *player, c *playing, in code.Inst)
 
-// callable is what can be called.
+// callable is what can be called, with the variables and values that it keeps.
 type callable struct {
 	title string
 	wants int
 	run   func(args []api.Datum, by *playing) api.Datum
+	boxes []int
+	bound []api.Datum
+}
+
+// laidDown is a call that waits for its turn, with all values in it.
+type laidDown struct {
+	turn func()
+	held []api.Datum
 }
 
 // playing is a call that is being run.
@@ -49,7 +62,7 @@ type playing struct {
 	taken     []int
 	next      int // the instruction at hand, and then the one behind it
 	stack     []thing
-	laid      []func()
+	laid      []laidDown
 	by        *playing // which one's defer called it
 	hand      int
 	over      bool
@@ -61,27 +74,39 @@ type playing struct {
 // thing is an api.Datum, a spot or a turn.
 type thing any
 
-// turn is a loop's: it tells the next key and value.
-type turn func() (key, held api.Datum, more bool)
+// turn is a loop's: it tells the next key and value, and has all that was there at its beginning.
+type turn struct {
+	next func() (key, held api.Datum, more bool)
+	held []api.Datum
+}
 
 type playThrown struct{ held api.Datum }
 
 type playEnded struct{ end int }
 
-// story is all that is told of a run.
+// What operations and built-in calls do, made once: thousands of programs are played.
+var (
+	allDoings   map[code.Op]doing
+	allBuiltIns map[string]builtIn
+)
+
+func init() { allDoings, allBuiltIns = doings(), builtIns() }
+
+// story is all that is told of a program that is played: what each Run answered, the last one's error, the events, how many things there were.
 type story struct {
-	api.Outcome
+	runs   []api.Outcome
 	err    error
 	events []api.Event
-	done   map[code.Op]int // how often each operation was done
+	counts [][3]int             // behind each Run: Things, what Collect forgets, Things behind it
+	done   [code.OpDrop + 1]int // how often each operation was done
 }
 
-// played plays code.
-func played(p code.Program, t *types.Table, fuel, depth int) story {
-	m := &player{
-		program: p, table: t, heap: heap.New(), fuel: fuel, depth: depth,
-		doing: doings(), builtIns: builtIns(), done: map[code.Op]int{}, declared: map[int]api.Datum{}, objects: map[int]string{},
-	}
+// last is what the last Run answered.
+func (s story) last() api.Outcome { return s.runs[len(s.runs)-1] }
+
+// played plays code, in pieces of fuel.
+func played(p code.Program, t *types.Table, depth int, pieces ...int) story {
+	m := &player{program: p, table: t, heap: heap.New(), pieces: pieces, depth: depth, declared: map[int]api.Datum{}, objects: map[int]string{}}
 	for range p.Globals {
 		m.globals = append(m.globals, m.box(api.Datum{}))
 	}
@@ -90,19 +115,29 @@ func played(p code.Program, t *types.Table, fuel, depth int) story {
 			m.declared[i] = m.function(m.callable(i, nil))
 		}
 	}
-	out := story{done: m.done}
-	out.End = api.Done
+	end, err := api.Done, error(nil)
 	switch e := tried(func() { m.run(m.call(0, nil, nil)) }).(type) {
 	case nil:
 	case playEnded:
-		out.End = e.end
+		end = e.end
 	case playThrown:
-		out.End, out.err = api.Panic, m.panicked(e.held)
+		end, err = api.Panic, m.panicked(e.held)
 	default:
 		panic(e)
 	}
-	out.Out, out.Steps, out.events = m.out, m.steps, m.events
-	return out
+	if end != api.Spent {
+		m.frames, m.handed = nil, nil
+	}
+	m.ended(end)
+	return story{m.runs, err, m.events, m.counts, m.done}
+}
+
+// ended: a Run answers.
+func (m *player) ended(end int) {
+	m.runs = append(m.runs, api.Outcome{End: end, Out: slices.Clone(m.out), Steps: m.steps})
+	things := m.things()
+	forgotten := m.collect()
+	m.counts = append(m.counts, [3]int{things, forgotten, m.things()})
 }
 
 func tried(do func()) (caught any) {
@@ -142,9 +177,14 @@ func (m *player) event(kind, at int, text string) {
 }
 
 func (m *player) step() {
-	if m.steps == m.fuel {
-		panic(playEnded{api.Spent})
+	for m.spent == m.pieces[0] {
+		if len(m.pieces) == 1 {
+			panic(playEnded{api.Spent})
+		}
+		m.ended(api.Spent)
+		m.pieces, m.spent = m.pieces[1:], 0
 	}
+	m.spent++
 	m.steps++
 }
 
@@ -222,7 +262,7 @@ func typeOf(v api.Datum) string { return number.Name(v) }
 
 func (m *player) function(c callable) api.Datum {
 	m.callables = append(m.callables, c)
-	f, err := m.heap.Func(len(m.callables)-1, nil, nil)
+	f, err := m.heap.Func(len(m.callables)-1, c.boxes, c.bound)
 	m.right(err)
 	return f
 }
@@ -230,7 +270,7 @@ func (m *player) function(c callable) api.Datum {
 // callable is a function of the code with what it takes.
 func (m *player) callable(number int, taken []int) callable {
 	f := m.program.Funcs[number]
-	return callable{f.Name, f.Params, func(args []api.Datum, by *playing) api.Datum {
+	return callable{title: f.Name, wants: f.Params, boxes: taken, run: func(args []api.Datum, by *playing) api.Datum {
 		c := m.call(number, taken, args)
 		c.by = by
 		m.level++
@@ -251,20 +291,21 @@ func (m *player) call(number int, taken []int, args []api.Datum) *playing {
 // run plays a call to its end, with what it laid down.
 func (m *player) run(c *playing) api.Datum {
 	around := m.top
+	m.frames = append(m.frames, c)
 	m.guarded(c, func() {
 		for !c.over {
 			in := c.function.Code[c.next]
 			c.next++
 			m.done[in.Op]++
-			m.doing[in.Op](m, c, in)
+			allDoings[in.Op](m, c, in)
 		}
 	})
 	for len(c.laid) > 0 {
 		last := c.laid[len(c.laid)-1]
 		c.laid = c.laid[:len(c.laid)-1]
-		m.guarded(c, last)
+		m.guarded(c, last.turn)
 	}
-	m.top = around
+	m.top, m.frames = around, m.frames[:len(m.frames)-1]
 	if c.panicking {
 		panic(playThrown{c.thrown})
 	}
@@ -277,7 +318,7 @@ func (m *player) guarded(c *playing, do func()) {
 	caught := tried(do)
 	m.top = c
 	if t, is := caught.(playThrown); is {
-		c.panicking, c.thrown, c.answer = true, t.held, api.Datum{}
+		c.panicking, c.thrown, c.answer, c.stack = true, t.held, api.Datum{}, nil
 	} else if caught != nil {
 		panic(caught)
 	}
@@ -288,7 +329,9 @@ func (m *player) invoke(f api.Datum, args []api.Datum, at int, by *playing) api.
 	if !m.isFunc(f) {
 		m.fault("nil", "call")
 	}
+	m.handed = append([]api.Datum{f}, args...)
 	m.step()
+	m.handed = nil
 	if m.level == m.depth {
 		panic(playEnded{api.Overflow})
 	}

@@ -1,4 +1,4 @@
-package peep_test
+package machine_test
 
 import (
 	"slices"

@@ -1,4 +1,4 @@
-package peep_test
+package machine_test
 
 import (
 	"slices"
@@ -65,12 +65,12 @@ func (m *player) receiver(e api.Datum, name string, found api.Found) api.Datum {
 
 func (m *player) method(receiver api.Datum, title string) callable {
 	if title == "fault.Error" {
-		return callable{title: title, run: func([]api.Datum, *playing) api.Datum { return m.faultText(receiver) }}
+		return callable{title: title, bound: []api.Datum{receiver}, run: func([]api.Datum, *playing) api.Datum { return m.faultText(receiver) }}
 	}
 	for i, f := range m.program.Funcs {
 		if i > 0 && f.Name == title {
 			c := m.callable(i, nil)
-			return callable{title, c.wants - 1, func(args []api.Datum, by *playing) api.Datum {
+			return callable{title: title, wants: c.wants - 1, bound: []api.Datum{receiver}, run: func(args []api.Datum, by *playing) api.Datum {
 				return c.run(slices.Concat([]api.Datum{receiver}, args), by)
 			}}
 		}
@@ -119,7 +119,7 @@ func (m *player) expression(name string, pointer bool, method string) api.Datum 
 		m.fault("missing", method, "of", of)
 	}
 	m.take(1)
-	return m.function(callable{found.Type + "." + method, found.Count + 1, func(args []api.Datum, by *playing) api.Datum {
+	return m.function(callable{title: found.Type + "." + method, wants: found.Count + 1, run: func(args []api.Datum, by *playing) api.Datum {
 		e, err := assert.Must(m.table, args[0], name, pointer)
 		m.right(err)
 		return m.bound(e, method).run(args[1:], by)

@@ -1,4 +1,4 @@
-package compile_test
+package machine_test
 
 import (
 	"slices"
