@@ -199,7 +199,7 @@ func brokenCalls() map[string]func(*Machine) {
 			must(m.calls[1].ending)
 			m.calls[1].push(nothing{})
 		},
-		"an answer behind a panic": func(m *Machine) {
+		"an answer of what recovered": func(m *Machine) {
 			must(m.calls[1].ending)
 			m.calls[1].panicking, m.calls[1].thrown, m.calls[1].answer = false, nothing{}, intOf(1)
 		},
@@ -340,6 +340,26 @@ func brokenThings() map[string]func(*Machine) {
 		"a field of a field": func(m *Machine) {
 			stacked(m, func(x member) thing { return member{x, x.names, x.path} })
 		},
+	}
+}
+
+// A call that is panicking has the answer that it had ahead of that.
+func TestAnswerOfWhatPanics(t *testing.T) {
+	m, p, table := ending(t)
+	m.calls[1].answer = m.newList("list", nils(2), 2)
+	b, err := m.Save()
+	if err != nil {
+		t.Fatal("P16.4:", err)
+	}
+	again, err := Load(b, p, table)
+	if err != nil {
+		t.Fatal("P16.4: an answer of what is panicking:", err)
+	}
+	if l, is := again.calls[1].answer.(list); !is || l.length != 2 || !again.calls[1].panicking {
+		t.Errorf("P16.4: the answer is another one: %v", again.calls[1].answer)
+	}
+	if m.Collect() != again.Collect() || m.Things() != again.Things() {
+		t.Errorf("P16.4: %d things are left; of what was loaded %d", m.Things(), again.Things())
 	}
 }
 

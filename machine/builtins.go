@@ -189,8 +189,7 @@ func (m *Machine) recovered([]value) value {
 	if !around.panicking {
 		return nothing{}
 	}
-	v := around.thrown
-	around.panicking, around.thrown = false, nothing{}
+	v := around.calm()
 	m.shownEvent(toldRecover, v)
 	return v
 }

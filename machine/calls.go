@@ -84,10 +84,17 @@ func (m *Machine) slot(c *call, slot int) *variable {
 	return c.slots[slot]
 }
 
-// fail: the call is panicking with a value. What it was about to answer, and what lies on its stack, is gone.
+// fail: the call is panicking with a value. What lies on its stack is gone; an answer that it has stays its own until it ends or recovers.
 func (c *call) fail(v value) {
 	c.ending, c.panicking, c.thrown = true, true, v
-	c.answer, c.stack, c.next = nothing{}, nil, 0
+	c.stack, c.next = nil, 0
+}
+
+// calm: the call is panicking no more, and its answer is nil, whatever it was. It tells with what it was panicking.
+func (c *call) calm() value {
+	v := c.thrown
+	c.panicking, c.thrown, c.answer = false, nothing{}, nothing{}
+	return v
 }
 
 // end goes on with a call that is ending: with what it laid down last, or, if that was all, with the one that called it.

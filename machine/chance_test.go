@@ -41,7 +41,7 @@ func TestByChance(t *testing.T) {
 			seen[what] += n
 		}
 	}
-	for _, some := range append(strings.Fields("done panic spent overflow "+words), "event 1", "event 2", "event 3", "event 4", "event 5", "event 6", "event 7", "forgotten", "kept") {
+	for _, some := range append(strings.Fields("done panic spent overflow "+words), "event 1", "event 2", "event 3", "event 4", "event 5", "event 6", "event 7", "forgotten", "kept", "answered, and panicking") {
 		if seen[some] < 2 {
 			t.Errorf("%s came %d times by chance", some, seen[some])
 		}
@@ -90,6 +90,7 @@ func tally(t testing.TB, seen map[string]int, s story) {
 	for o, n := range s.done {
 		seen["did "+opName(code.Op(o))] += n
 	}
+	seen["answered, and panicking"] += s.answered
 	for i, n := range s.counts {
 		if n[1] > 0 {
 			seen["forgotten"]++

@@ -58,30 +58,63 @@ type grower struct {
 }
 
 func (g *grower) function() []code.Inst {
-	if g.number > 0 && g.IntN(5) > 0 {
+	if g.number == 0 {
+		g.beginning()
+	} else if g.IntN(5) > 0 {
 		g.add("literal 5; defer 0")
 	}
-	if g.number == 0 {
-		g.add("struct 0 'E'; object; storeglobal 0; list 0; storeglobal 1; literal 6; storeglobal 2")
+	if g.number == 1 || g.IntN(8) == 0 {
+		g.answered()
+	}
+	calls := g.IntN(2) // the literal's: ahead of what may have a fault, or behind it
+	if calls == 0 {
+		g.within()
 	}
 	g.statements(3 + g.IntN(6))
-	if g.number == 6 || g.number == 7 {
-		for range g.literal() {
-			g.any(1)
-		}
-		g.add("call %d; pop", g.p.Funcs[g.number+1].Params)
-	}
-	if g.number == 0 {
-		for range 3 {
-			g.add("literal 6")
-			g.any(1)
-			g.any(1)
-			g.add("call 2; built 1 'print'; pop; literal 9; int '1'; call 1; pop")
-		}
+	if calls == 1 {
+		g.within()
 	}
 	g.any(2)
 	g.add("return")
 	return g.l
+}
+
+// beginning calls the functions that catch what panics in them, ahead of what would end all.
+func (g *grower) beginning() {
+	g.add("struct 0 'E'; object; storeglobal 0; list 0; storeglobal 1; literal 6; storeglobal 2")
+	for range 3 {
+		g.add("literal 6")
+		g.plain()
+		g.plain()
+		g.add("call 2; built 1 'print'; pop; literal 9; int '1'; call 1; pop; struct 0 'T'; select 1 'sum'; call 0; pop")
+	}
+}
+
+// within calls the literal that stands in the function at hand.
+func (g *grower) within() {
+	if g.number == 6 || g.number == 7 {
+		for range g.literal() {
+			g.plain()
+		}
+		g.add("call %d; pop", g.p.Funcs[g.number+1].Params)
+	}
+}
+
+// answered: behind a return a laid down call panics, while others wait for their turn; it is come to by chance.
+func (g *grower) answered() {
+	g.add("bool %d", g.IntN(2))
+	branch := len(g.l)
+	g.add("branch 0; literal 5; defer 0")
+	for range 1 + g.IntN(2) {
+		g.any(1)
+		g.add("%s", g.one("deferbuilt 1 'panic'", "pop; nil; defer 0", "deferbuilt 1 'cap'"))
+	}
+	if g.IntN(3) == 0 {
+		g.add("literal 5; defer 0")
+	}
+	g.list(2)
+	g.add("return")
+	g.l[branch].A = len(g.l)
 }
 
 // add lays instructions down, at places by chance.

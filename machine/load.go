@@ -219,7 +219,7 @@ func (r *reader) fitCalls() {
 	}
 }
 
-// stands: a call is at an instruction that is come to; or has called another one, and waits for its answer; or is ending, behind its return or a panic.
+// stands: a call is at an instruction that is come to; or has called another one, and waits for its answer; or is ending, behind its return or a panic (if it is panicking no more, it answers nil).
 func stands(c *call, piles []*pile, last bool) bool {
 	if c.ending && c.next == 0 {
 		return len(c.stack) == 0 && (c.panicking || isNil(c.answer))

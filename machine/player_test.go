@@ -36,6 +36,7 @@ type player struct {
 	frames      []*playing  // all calls that are being run
 	handed      []api.Datum // what is about to be called, with its arguments
 	counts      [][3]int
+	answered    int // how often behind a Run a call was panicking and had an answer that leads somewhere
 }
 
 type doing func(m *player, c *playing, in code.Inst)
@@ -94,11 +95,12 @@ func init() { allDoings, allBuiltIns = doings(), builtIns() }
 
 // story is all that is told of a program that is played: what each Run answered, the last one's error, the events, how many things there were.
 type story struct {
-	runs   []api.Outcome
-	err    error
-	events []api.Event
-	counts [][3]int             // behind each Run: Things, what Collect forgets, Things behind it
-	done   [code.OpDrop + 1]int // how often each operation was done
+	runs     []api.Outcome
+	err      error
+	events   []api.Event
+	counts   [][3]int             // behind each Run: Things, what Collect forgets, Things behind it
+	done     [code.OpDrop + 1]int // how often each operation was done
+	answered int                  // how often behind a Run a call was panicking and had an answer that leads somewhere
 }
 
 // last is what the last Run answered.
@@ -129,12 +131,17 @@ func played(p code.Program, t *types.Table, depth int, pieces ...int) story {
 		m.frames, m.handed = nil, nil
 	}
 	m.ended(end)
-	return story{m.runs, err, m.events, m.counts, m.done}
+	return story{m.runs, err, m.events, m.counts, m.done, m.answered}
 }
 
 // ended: a Run answers.
 func (m *player) ended(end int) {
 	m.runs = append(m.runs, api.Outcome{End: end, Out: slices.Clone(m.out), Steps: m.steps})
+	for _, c := range m.frames {
+		if c.panicking && c.answer.Ref.Object != 0 {
+			m.answered++
+		}
+	}
 	things := m.things()
 	forgotten := m.collect()
 	m.counts = append(m.counts, [3]int{things, forgotten, m.things()})
@@ -318,7 +325,7 @@ func (m *player) guarded(c *playing, do func()) {
 	caught := tried(do)
 	m.top = c
 	if t, is := caught.(playThrown); is {
-		c.panicking, c.thrown, c.answer, c.stack = true, t.held, api.Datum{}, nil
+		c.panicking, c.thrown, c.stack = true, t.held, nil
 	} else if caught != nil {
 		panic(caught)
 	}

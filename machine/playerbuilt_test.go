@@ -97,7 +97,7 @@ func (m *player) recovered(a []api.Datum, by *playing) api.Datum {
 	if by == nil || !by.panicking {
 		return api.Datum{}
 	}
-	by.panicking = false
+	by.panicking, by.answer = false, api.Datum{}
 	m.event(6, m.top.hand, m.shown(by.thrown))
 	return by.thrown
 }

@@ -87,7 +87,7 @@ func counted(t testing.TB) between {
 	}
 }
 
-// kept saves and loads; what was loaded says the same bytes, and has as many things.
+// kept saves and loads; what was loaded says the same bytes, has as many things, and can come to as many.
 func kept(t testing.TB, p code.Program, table *types.Table) between {
 	return func(m *machine.Machine) (*machine.Machine, *[3]int) {
 		t.Helper()
@@ -95,6 +95,10 @@ func kept(t testing.TB, p code.Program, table *types.Table) between {
 		again := loaded(t, b, p, table)
 		if saved(t, again) != b || saved(t, m) != b || again.Things() != m.Things() || again.Over() != m.Over() {
 			t.Fatalf("P16.4: what was loaded is another one: %d things, over %v; it was %d, %v", again.Things(), again.Over(), m.Things(), m.Over())
+		}
+		other := loaded(t, b, p, table)
+		if must, got := m.Collect(), other.Collect(); got != must || other.Things() != m.Things() {
+			t.Fatalf("P16.4: of what was loaded %d things are forgotten; it was %d", got, must)
 		}
 		return again, nil
 	}

@@ -50,6 +50,13 @@ func TestThings(t *testing.T) {
 		{"an answer, while something laid down waits", "literal 4; defer 0; list 0; return", 0, [3]int{3, 0, 3}},
 		{"what lies below an answer", "literal 4; defer 0; map 0; list 0; return", 0, [3]int{4, 0, 4}},
 		{"a panic, while something laid down waits", "literal 4; defer 0; map 0; list 0; built 1 'panic'; return", 0, [3]int{4, 1, 3}}, // the stack is gone
+		{"an answer, behind which a call that was laid down had a fault", "literal 4; defer 0; nil; defer 0; list 0; return", 0, [3]int{4, 0, 4}},
+		{"what lies below that answer is gone", "literal 4; defer 0; nil; defer 0; map 0; list 0; return", 0, [3]int{5, 1, 4}},
+		{"what that answer leads to", "literal 4; defer 0; nil; deferbuilt 1 'panic'; list 0; struct 1 'T x'; object; map 0; map 1; list 1; return", 0, [3]int{8, 0, 8}},
+		{"an answer, behind which a laid down built-in call panicked", "literal 4; defer 0; map 0; deferbuilt 1 'panic'; list 0; return", 0, [3]int{4, 0, 4}},
+		{"an answer, behind a panic behind another one", "literal 4; defer 0; map 0; deferbuilt 1 'panic'; map 0; deferbuilt 1 'panic'; list 0; return", 0, [3]int{5, 1, 4}},
+		{"a slot's variable, which is answered, and is another one then", "literal 4; defer 0; nil; defer 0; list 0; fresh 0; load 0; nil; fresh 0; return", 0, [3]int{6, 1, 5}},
+		{"an answer that was recovered", "literal 4; defer 0; literal 4; defer 0; text 'x'; deferbuilt 1 'panic'; list 0; return", 1, [3]int{3, 1, 2}},
 		{"a fault's object", "literal 4; defer 0; nil; unary '-'; return", 0, [3]int{3, 0, 3}},
 		{"arguments that wait for their call", "literal 5; list 0; list 0; call 2; return", 0, [3]int{4, 0, 4}},
 		{"parameters", "literal 1; list 0; struct 1 'T x'; call 1; return", 1, [3]int{4, 0, 4}},
