@@ -2,6 +2,7 @@ package machine
 
 import (
 	"errors"
+	"slices"
 	"testing"
 
 	"guise/api"
@@ -145,6 +146,9 @@ func brokenHeads() map[string]func(*Machine) {
 		"steps below 0":            func(m *Machine) { m.steps = -1 },
 		"room below 0":             func(m *Machine) { m.room = -1 },
 		"more room than there is":  func(m *Machine) { m.room = api.MaxRoom + 1 },
+		"a line without room":      func(m *Machine) { m.out, m.room = []string{"abc"}, 2 },
+		"lines without room":       func(m *Machine) { m.out, m.room = []string{"abc", "", "abc"}, 5 },
+		"lines beyond all room":    func(m *Machine) { m.out, m.room = slices.Repeat([]string{"a line"}, 200000), api.MaxRoom },
 		"an end that is none":      func(m *Machine) { m.result.end, m.calls = api.Full+1, nil },
 		"an end that is spent":     func(m *Machine) { m.result.end, m.calls = api.Spent, nil },
 		"over, and calls":          func(m *Machine) { m.result.end = api.Done },
@@ -370,6 +374,7 @@ func TestUnusualMachines(t *testing.T) {
 		"the nan":                       func(m *Machine) { m.globals[4].held = float{typed{"float"}, 0x7ff8000000000001} },
 		"below 0 without end":           func(m *Machine) { m.globals[4].held = float{typed{"float"}, 0xfff0000000000000} },
 		"all room":                      func(m *Machine) { m.room = api.MaxRoom },
+		"lines that took all of it":     func(m *Machine) { m.out, m.room = []string{"abc", "", "abc"}, 6 },
 		"the greatest depth":            func(m *Machine) { m.depth = api.MaxDepth },
 		"just this depth":               func(m *Machine) { m.depth = len(m.calls) - 1 },
 		"a place of an element": func(m *Machine) {

@@ -181,8 +181,12 @@ func (r *reader) result() {
 	m := r.machine
 	m.result.end = r.upTo(api.Full)
 	must(m.result.end != api.Spent)
+	left := m.room
 	for range r.count() {
-		m.out = append(m.out, r.text())
+		line := r.text()
+		left -= len(line)
+		must(left >= 0) // each took its bytes: so what a Run answers is never more than there is room for
+		m.out = append(m.out, line)
 	}
 	m.result.shown = r.text()
 	if r.flag() {
